@@ -1,0 +1,1 @@
+"""Needforth: what rows that never end need, give and keep up."""
