@@ -54,7 +54,7 @@ def many_at_most(climb, limit):
 
 
 def last_at_most(table, limit):
-    """The greatest count or never at which the value is at most the limit, a count."""
+    """The greatest count or never at which the value is at most the limit; 0 for the limit -1, which no value keeps."""
     many = many_at_most(table.head, limit)
     if many < len(table.head) or not table.loop:
         return many

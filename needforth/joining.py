@@ -107,7 +107,7 @@ def under_form(first, second):
         tail = None if end is None else last_at_most(first, end)
         return settled_form(places_under(first, second.head), tail)
     limit = settled_from(first)
-    lead = 0 if limit == 0 else last_at_most(second, limit - 1)
+    lead = last_at_most(second, limit - 1)
     if not first.loop or first.rise == 0:
         tail = None if first.loop else len(first.head)
         return settled_form(places_under(first, values_from(second, 1, lead)), tail)
@@ -157,7 +157,7 @@ def over_settled(first, second):
         tail = value_at(first, len(second.head) + 1)
         if tail is None:
             return len(first.head), None
-        return last_at_most(first, tail - 1) if tail > 0 else 0, tail
+        return last_at_most(first, tail - 1), tail
     if second.rise == 0:
         # there are no more places with greater values: behind the end it is never
         last = len(second.head) + 1

@@ -77,7 +77,8 @@ class Telling(unittest.TestCase):
                   (("behind", "f", "f"), 2), (("both", "f", ("shift", 0)), 2), (("either", "f", "g"), 2),
                   (("under", ("turn", "f"), "g"), 5), (("under", "g", ("turn", "f")), 4),
                   (("over", ("turn", "f"), "g"), 4), (("over", "g", ("turn", "f")), 5),
-                  (("behind", ("under", "f", "g"), ("over", "f", "g")), 6), (["turn", ["under", "f", "g"]], 6))
+                  (("behind", ("under", "f", "g"), ("over", "f", "g")), 6), (("behind", ("turn", "f"), "g"), 3),
+                  (("both", "g", ("turn", "f")), 3), (("either", ("turn", "f"), "g"), 3), (["turn", ["under", "f", "g"]], 6))
         for term, many in wanted:
             self.assertEqual(samples_of(term), many)
         self.assertEqual(samples_of(term="f"), 1)

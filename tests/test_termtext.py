@@ -128,6 +128,7 @@ class Writing(unittest.TestCase):
         self.assertEqual(write_saying(saying), "f | g <= ~h")
         self.assertEqual(write_saying(as_lists(saying)), "f | g <= ~h")
         self.assertEqual(write_saying(saying=["f", ["shift", -1]]), "f <= -1")
+        self.assertEqual(write_saying(("f", ("either", ("shift", 1), "g"))), "f <= +1 | g")
 
     def test_wrong_terms(self):
         for thing in ("F", ("shift", 10), None, ["both", "f", ("turn",)], (), ("shift", True)):
