@@ -124,6 +124,29 @@ class Language(unittest.TestCase):
                 if isinstance(sign, (ast.Is, ast.IsNot)):
                     self.assertIn(ast.unparse(side), ("None", "True", "False"), where)
 
+    def test_what_iterated_objects_rule_out(self):
+        for where, node in self.nodes(ast.ImportFrom):
+            if node.module == "itertools":
+                self.assertFalse({alias.name for alias in node.names} & {"product", "combinations", "permutations"}, where)
+        for where, node in self.nodes(ast.Call):
+            if isinstance(node.func, ast.Name) and node.func.id == "reversed":
+                self.assertRegex(ast.unparse(node.args[0]), r"^(list|tuple|sorted|range)\(", where)
+            if isinstance(node.func, ast.Attribute):
+                self.assertNotEqual(node.func.attr, "sort", where)
+            if isinstance(node.func, ast.Name) and node.func.id in LIBRARY["math"]:
+                self.assertFalse([one for one in node.args if isinstance(one, ast.Starred)], where)
+
+    def test_names_of_files_bind_no_locals(self):
+        for name, tree in self.trees.items():
+            fixed = {alias.name for node in tree.body if isinstance(node, ast.ImportFrom) for alias in node.names}
+            fixed |= {node.name for node in tree.body if isinstance(node, ast.ClassDef)}
+            for made in ast.walk(tree):
+                if isinstance(made, ast.FunctionDef):
+                    local = {node.arg for node in ast.walk(made.args) if isinstance(node, ast.arg)}
+                    local |= {node.id for node in ast.walk(made)
+                              if isinstance(node, ast.Name) and isinstance(node.ctx, ast.Store)}
+                    self.assertFalse(local & fixed, name + ":" + made.name)
+
     def test_names(self):
         own = {node.name for where, node in self.nodes(ast.FunctionDef, ast.ClassDef)}
         for name, tree in self.trees.items():
