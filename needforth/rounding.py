@@ -14,7 +14,7 @@ class Outlook:
     """What is taken at most, or at least, at one inlet of a maker on all its courses.
 
     For each number of pieces that whole rounds give, `taken` is what they take then, and `lasts` the last way.
-    For each piece given in a round, `values` is what the rounds take ahead of it, and `choices` the pair of
+    For each piece given in a round, `ahead` is what the rounds take ahead of it, and `choices` the pair of
     the way that gives it and the number of pieces that the rounds ahead give.
     """
 
@@ -25,7 +25,7 @@ class Outlook:
         self.giving = [number for number, one in enumerate(self.rounds) if one.marks]
         self.taken = [0]
         self.lasts = [None]
-        self.values = [0]
+        self.ahead = [0]
         self.choices = [None]
 
     def stopping(self):
@@ -41,7 +41,7 @@ class Outlook:
         """Find out what is taken for so many pieces."""
         self.taken = [0] + [None] * many
         self.lasts = [None] * (many + 1)
-        self.values = [0] + [None] * many
+        self.ahead = [0] + [None] * many
         self.choices = [None] * (many + 1)
         for given in range(many):
             if self.taken[given] is not None:
@@ -54,8 +54,8 @@ class Outlook:
         one = self.rounds[number]
         marks = one.marks[:many - given]
         for piece, mark in enumerate(marks, start=given + 1):
-            if self.better(taken + mark, self.values[piece]):
-                self.values[piece] = taken + mark
+            if self.better(taken + mark, self.ahead[piece]):
+                self.ahead[piece] = taken + mark
                 self.choices[piece] = (number, given)
         behind = given + len(one.marks)
         if behind <= many and self.better(taken + one.taken, self.taken[behind]):
@@ -87,19 +87,19 @@ class Outlook:
         longest = max([len(self.rounds[number].marks) for number in self.giving])
         lead = longest if len(self.giving) == 1 else lap * longest
         self.look(lead + lap)
-        values = [self.begin.taken + value for value in self.values[1:]]
+        values = [self.begin.taken + value for value in self.ahead[1:]]
         return head + values[:lead], values[lead:], best.taken
 
     def course(self, piece):
         """A course on which so much is taken ahead of a piece."""
-        ahead = len(self.begin.marks)
-        if piece <= ahead:
+        begun = len(self.begin.marks)
+        if piece <= begun:
             return (), (0,)
         stopping = self.stopping()
         if stopping is not None:
             return (), (stopping,)
-        self.look(piece - ahead)
-        number, given = self.choices[piece - ahead]
+        self.look(piece - begun)
+        number, given = self.choices[piece - begun]
         first = []
         while given > 0:
             # the rounds of the way that gives the piece may all come last, and need not be told one by one

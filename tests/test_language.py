@@ -27,6 +27,8 @@ BARRED = set(
     "register mro elements open input law version_info attrgetter breakpoint builtins compile copyright credits delattr"
     " dir eval exec exit gc globals help id importlib license locals methodcaller os quit type vars sys typing enum"
     " format".split())
+# attributes that may have the names of methods of builtin values
+FREE = set("count index title find get join lower upper split strip copy add".split())
 STATEMENTS = (ast.Assign, ast.AugAssign, ast.If, ast.While, ast.For, ast.Return, ast.Break, ast.Continue, ast.Pass,
               ast.Raise, ast.Assert, ast.Delete, ast.Nonlocal, ast.With, ast.Try, ast.Expr, ast.FunctionDef, ast.ClassDef,
               ast.ImportFrom)
@@ -166,6 +168,8 @@ class Language(unittest.TestCase):
 
     def test_attributes(self):
         stored = {node.attr for where, node in self.nodes(ast.Attribute) if isinstance(node.ctx, ast.Store)}
+        taken = {name for kind in (str, int, list, tuple, dict, set, bytes) for name in dir(kind)} | BARRED | {"args"}
+        self.assertFalse(stored & taken - FREE)
         for where, node in self.nodes(ast.ClassDef):
             methods = [made.name for made in node.body if isinstance(made, ast.FunctionDef)]
             self.assertEqual(len(methods), len(set(methods)), where)
