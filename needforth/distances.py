@@ -60,7 +60,7 @@ class Distances:
         self.rows[point] = row
         self.hops[point] = hops
 
-    def ring(self, number):
+    def ring_through(self, number):
         """The numbers of the bounds of a ring through a bound that is barred, this one first."""
         first, point, _ = self.bounds[number]
         found = [number]

@@ -71,7 +71,7 @@ class Search:
 
     def ring_of(self, distances, number):
         """The ring that refutes a bound."""
-        numbers = distances.ring(number)
+        numbers = distances.ring_through(number)
         used = 0
         for bound in numbers:
             if bound >= self.anyway:

@@ -1,6 +1,7 @@
-"""Makers by chance, and what they take, found the slow way."""
+"""Makers and webs by chance, and what makers take, found the slow way."""
 
 from needforth.makers import Maker
+from needforth.webs import Web
 
 
 def some_deeds(chance, inlets, most, gives=1):
@@ -33,3 +34,15 @@ def slow_need(maker, inlet, course, many):
         if "give" not in deeds:
             break
     return (found + [None] * many)[:many]
+
+
+def some_web(chance, open_makers):
+    givens = list("gh")[:chance.randint(0, 2)]
+    made = list("uvwxyz")[:chance.randint(1, 6)]
+    chance.shuffle(made)
+    rows = []
+    for name in made:
+        maker = some_maker(chance, 3, chance.choice([1, 1, 2, 3]), 0.02)
+        sources = tuple(chance.choice(givens + made) for _ in range(maker.inlets))
+        rows.append((name, name if open_makers else maker, sources))
+    return Web(givens, rows)

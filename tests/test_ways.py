@@ -5,7 +5,7 @@ import random
 import unittest
 
 from helpers import raised
-from making import some_maker
+from making import some_web
 from needforth.courses import greatest
 from needforth.errors import Lacking, NoWay
 from needforth.makers import Maker
@@ -19,18 +19,6 @@ NOUGHT = Table((), (0,), 0)
 LINES = ("given g", "given h", "row x of g y x: begin give; way 0 1 give 2; way 1 1 0 give",
          "row y of x x: begin; way 0 give 1", "row z of y g: begin; way 0 0 1 give give",
          "row w of w: begin give give; way 0 give; way 0")
-
-
-def some_web(chance, open_makers):
-    givens = list("gh")[:chance.randint(0, 2)]
-    made = list("uvwxyz")[:chance.randint(1, 6)]
-    chance.shuffle(made)
-    rows = []
-    for name in made:
-        maker = some_maker(chance, 3, chance.choice([1, 1, 2, 3]), 0.02)
-        sources = tuple(chance.choice(givens + made) for _ in range(maker.inlets))
-        rows.append((name, name if open_makers else maker, sources))
-    return Web(givens, rows)
 
 
 def slow_ways(web, row):
