@@ -135,6 +135,16 @@ class Courses(unittest.TestCase):
                 for inlet in range(maker.inlets):
                     self.check(maker, inlet, piece)
 
+    def test_few_rounds_told(self):
+        # the way that gives the piece is to be gone as often as it may, so that a course is not long without need
+        for ways, piece, most in (((("give",), ("give", "give", "give", 0), ("give",)), 814, True), (((0, "give"), (0, 0, "give", "give")), 2000, True),
+                                  (((0, 0, "give", "give"), (0, "give")), 1999, True), (((0, "give"), ("give", "give", 0, 0)), 1999, False)):
+            maker = Maker(1, (), ways)
+            course = course_of(maker, 0, piece, most=most)
+            self.assertLessEqual(len(course[0]), 1, course)
+            table = greatest(maker, 0) if most else least(maker, 0)
+            self.assertEqual(maker.need(0, course)(piece), table(piece))
+
     def test_most(self):
         maker = Maker(1, (), (("give",), (0, "give")))
         self.assertEqual(maker.need(0, course_of(maker, 0, 9))(9), 9)

@@ -108,6 +108,9 @@ class Terms(unittest.TestCase):
                     if not found:
                         self.assertEqual(raised(NoWay, ask_term, web, row, other), {"thing": other})
                         continue
+                    if sum(way_parts(web, way) + 1 for way in found) > 61:
+                        self.assertEqual(raised(TooMany, ask_term, web, row, other), {"word": "part"})
+                        continue
                     wanted = way_table(closed, found[0])
                     for way in found[1:]:
                         wanted = wanted & way_table(closed, way)
