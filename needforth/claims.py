@@ -89,4 +89,4 @@ def verdict_of(web, net, claim):
         return lack is None or lack > claim[3]
     if claim[0] == "needs":
         return below(net.need_of(row, claim[2]), claim[3]).holds
-    return first_excess(claim[2], net.earliest_of(row, told_by_name(claim[3])), 0) is None
+    return first_excess(claim[2], net.kept_with(told_by_name(claim[3]), [row])[row], 0) is None

@@ -29,14 +29,17 @@ def hole_of(web):
     return rows[0]
 
 
-def widest_at(net, hole, source, asked, paces):
-    """The greatest table that a maker in a hole may need at an inlet with this source.
+def widest_at(net, hole, source, asked, earliest):
+    """The greatest table that a maker in a hole may need at an inlet with this source, whose earliest pace is told.
 
     For the pieces that are asked for at a stage it may need what comes of the source at this stage,
     and what the source itself asks of the hole must come ahead of the piece for which it is needed.
     """
     ahead = net.asked_for({source: up_to(net.most_of(source))}).get(hole, always(0))
-    table = over(net.earliest_of(source, paces), asked) | under(ahead, Table.shift(-1))
+    table = under(ahead, Table.shift(-1))
+    # the other table may be very long, and is not worked out where this one is below it
+    if first_excess(table * asked, earliest, 0) is not None:
+        table = table | over(earliest, asked)
     last = asked.end
     if last is None or not table.head and not table.loop:
         return table
@@ -51,10 +54,10 @@ def widest(web, row, pace, paces=()):
     check_pace(pace)
     check_paces(web.givens, paces)
     net = Net(asks_behind(asks_of(web), [row, *sources]))
-    told = told_by_name(paces)
-    stage = first_excess(pace, net.earliest_of(row, told), 0)
+    earliest = net.kept_with(told_by_name(paces), [row, *sources])
+    stage = first_excess(pace, earliest[row], 0)
     if stage is not None:
         return Widest(None, None, stage)
     asked = net.asked_for({row: pace}).get(hole, always(0))
-    tables = [widest_at(net, hole, source, asked, told) for source in sources]
+    tables = [widest_at(net, hole, source, asked, earliest[source]) for source in sources]
     return Widest(tuple(tables), asked.end, None)

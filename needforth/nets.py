@@ -152,9 +152,9 @@ class Net:
         asked = self.asked_for({row: up_to(most)}).get(leaf, always(0))
         return asked if most is None else asked & Table((0,) * most)
 
-    def kept_with(self, paces):
-        """For each name the greatest pace that it keeps up at these paces of the leaves."""
-        found = {name: always(self.most_of(name)) for name in self.asks}
+    def kept_with(self, paces, names):
+        """For these and other names the greatest paces that they keep up at these paces of leaves."""
+        found = {name: always(self.most_of(name)) for name in list(names) + list(self.asks)}
         for name in paces:
             found[name] = paces[name]
         fresh = list(found)
@@ -170,7 +170,3 @@ class Net:
                     later.append(name)
             fresh = later
         return found
-
-    def earliest_of(self, row, paces):
-        """The greatest pace that a row keeps up at these paces of the leaves."""
-        return self.kept_with(paces).get(row, always(None))

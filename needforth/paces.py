@@ -53,7 +53,7 @@ def kept(web, row, pace, paces=()):
     check_row(web, row)
     check_pace(pace)
     check_paces(web.givens, paces)
-    stage = first_excess(pace, net_behind(web, row).earliest_of(row, told_by_name(paces)), 0)
+    stage = first_excess(pace, net_behind(web, row).kept_with(told_by_name(paces), [row])[row], 0)
     if stage is None:
         return Kept(None, None, None)
     return Kept(stage, pace(stage), surely(web, row, counts_at(paces, stage)))
@@ -64,7 +64,7 @@ def earliest(web, row, paces=()):
     check_closed(web)
     check_row(web, row)
     check_paces(web.givens, paces)
-    return net_behind(web, row).earliest_of(row, told_by_name(paces))
+    return net_behind(web, row).kept_with(told_by_name(paces), [row])[row]
 
 
 def least_paces(web, row, pace):

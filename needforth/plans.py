@@ -46,7 +46,7 @@ def planned(web, plan):
     check_closed(web)
     check_plan(web, plan)
     paces = told_by_name(plan)
-    earliest = Net(asks_of(web)).kept_with({given: paces[given] for given in web.givens})
+    earliest = Net(asks_of(web)).kept_with({given: paces[given] for given in web.givens}, web.names)
     for row in web.names:
         fault = fault_at_inlets(web, row, paces)
         if fault is not None:
